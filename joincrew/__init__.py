@@ -1,0 +1,1 @@
+"""Joincrew: programs that fork and join, run by hands that take work from one another."""
