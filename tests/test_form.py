@@ -54,6 +54,18 @@ def nodes(kind):
                 yield file.name, node
 
 
+def parents(kind):
+    """Each node of a kind, with the node in which it stands."""
+    for name, node in nodes(ast.AST):
+        for part in ast.iter_child_nodes(node):
+            if isinstance(part, kind):
+                yield name, part, node
+
+
+def called_name(node):
+    return node.func.id if isinstance(node, ast.Call) and isinstance(node.func, ast.Name) else None
+
+
 def own_classes():
     return {node.name for name, node in nodes(ast.ClassDef)}
 
@@ -186,6 +198,38 @@ class Form(unittest.TestCase):
                 self.assertIn(node.func.attr, METHODS | own_methods(), name)
         for name, node in nodes(ast.Attribute):
             self.assertNotIn(node.attr, NAMES_NOWHERE, name)
+
+    def test_names_of_own_methods_and_values_l26(self):
+        taken = set()
+        for kind in (str, int, list, tuple, dict, set, frozenset, bytes, bytearray):
+            taken |= set(dir(kind))
+        values = {node.attr for name, node in nodes(ast.Attribute) if isinstance(node.ctx, ast.Store)}
+        self.assertEqual(values & taken, set())
+        self.assertEqual(own_methods() & (taken - METHODS - set(SPECIAL_METHODS) - {"add", "discard"}), set())
+
+    def test_no_annotations_l21(self):
+        for name, node in nodes(ast.arg):
+            self.assertIsNone(node.annotation, name)
+        for name, node in nodes(ast.FunctionDef):
+            self.assertIsNone(node.returns, name)
+
+    def test_walked_on_the_spot_l23(self):
+        for name, node, around in parents(ast.Call):
+            views = isinstance(node.func, ast.Attribute) and node.func.attr in ("items", "keys", "values")
+            if not views and called_name(node) not in ("zip", "enumerate", "reversed", "range"):
+                continue
+            where = f"{name}, line {node.lineno}"
+            if isinstance(around, (ast.For, ast.comprehension)):
+                self.assertIs(around.iter, node, where)
+            else:
+                self.assertIn(called_name(around), ("list", "tuple", "dict", "sorted", "sum", "any", "all", "enumerate",
+                                                    "zip", "min", "max"), where)
+
+    def test_sets_are_not_kept_l24(self):
+        for name, node, around in parents((ast.Call, ast.Set)):
+            if isinstance(node, ast.Set) or called_name(node) in ("set", "frozenset"):
+                asked = isinstance(around, (ast.Compare, ast.BinOp)) or called_name(around) in ("sorted", "len")
+                self.assertTrue(asked, f"{name}, line {node.lineno}")
 
     def test_is_stands_beside_none_true_and_false_l20(self):
         for name, node in nodes(ast.Compare):

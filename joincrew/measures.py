@@ -1,0 +1,16 @@
+"""The measures of tracks."""
+
+
+# (work, depth, forks), as of the whole program.
+def measured(track):
+    work = track.length
+    depth = track.length
+    forks = 0
+    for mark in track.marks:
+        if len(mark[1]) > 0:
+            one = measured(mark[1][0])
+            other = measured(mark[1][1])
+            work += one[0] + other[0]
+            depth += max(one[1], other[1])
+            forks = max(forks, 1 + one[2], 1 + other[2])
+    return (work, depth, forks)
