@@ -1,7 +1,7 @@
 """Programs done alone: what comes of them, their measures, touches and races."""
 
 from joincrew.measures import measured
-from joincrew.races import race_in, touches_in
+from joincrew.races import races_in, touches_in
 from joincrew.rows import OpenRow, notes_of
 from joincrew.tracks import followed, track_of
 
@@ -22,4 +22,5 @@ def touched(program, cells):
 
 
 def race(program, cells):
-    return race_in(track_of(program, cells), {})
+    races = races_in(track_of(program, cells), {})
+    return races[0][1] if len(races) > 0 else None

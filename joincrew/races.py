@@ -5,41 +5,37 @@
 def touches_in(track):
     touches = []
     for mark in track.marks:
-        touches.extend(mark[0])
-        for forked in mark[1]:
+        touches.extend(mark.touches)
+        for forked in mark.forked:
             touches.extend(touches_in(forked))
     return touches
 
 
-# A pair of touches that race, None if there is none. The first touch of each way and cell is
-# put into firsts: the others of its way and cell race with the same ones, so they need not be kept.
-def race_in(track, firsts):
+# For each fork at which some race, its step and a pair of touches that do. The first touch of each
+# way and cell is put into firsts: the others of its way and cell race with the same ones, so they
+# need not be kept.
+def races_in(track, firsts):
+    races = []
     for mark in track.marks:
-        for touch in mark[0]:
+        for touch in mark.touches:
             firsts.setdefault(touch[2:], touch)
-        found = race_at_fork(mark[1], firsts)
-        if found is not None:
-            return found
-    return None
+        if len(mark.forked) > 0:
+            races.extend(races_at_fork(mark, firsts))
+    return races
 
 
 # What is beside one another is parted by some fork, so one side is held against the other at each.
-def race_at_fork(forked, firsts):
-    sides = []
-    for track in forked:
-        side = {}
-        found = race_in(track, side)
-        if found is not None:
-            return found
-        sides.append(side)
-    if len(sides) == 2:
-        found = race_between(sides[0], sides[1])
-        if found is not None:
-            return found
-    for side in sides:
+def races_at_fork(mark, firsts):
+    one = {}
+    other = {}
+    races = races_in(mark.forked[0], one) + races_in(mark.forked[1], other)
+    pair = race_between(one, other)
+    if pair is not None:
+        races.append((mark.step, pair))
+    for side in (one, other):
         for key in side:
             firsts.setdefault(key, side[key])
-    return None
+    return races
 
 
 def race_between(one, other):

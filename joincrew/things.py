@@ -50,11 +50,13 @@ def are_cells(thing):
 
 
 def is_number(thing, kind):
-    # A truth is an int to Python, but no whole number here.
-    if not isinstance(thing, int) or isinstance(thing, bool):
-        return False
     bounds = NUMBER_BOUNDS[kind]
-    return bounds[0] <= thing <= bounds[1]
+    return is_whole(thing) and bounds[0] <= thing <= bounds[1]
+
+
+# A truth is an int to Python, but no whole number here.
+def is_whole(thing):
+    return isinstance(thing, int) and not isinstance(thing, bool)
 
 
 # words_left: how many more words may lie in one another.

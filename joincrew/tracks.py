@@ -4,12 +4,19 @@ from joincrew.rows import OpenRow
 from joincrew.sums import cells_asked
 
 
-# A mark is a pair of what a unit touches, and of the tracks of the rows that it forks; units
-# with neither have no mark, so that work may be long.
+# Units with neither touches nor forks have no mark, so that work may be long.
 class Track:
     def __init__(self):
         self.length = 0
         self.marks = []
+
+
+# A unit's step, what the unit touches, and the tracks of the two rows that it forks, if it does.
+class Mark:
+    def __init__(self, step, touches, forked):
+        self.step = step
+        self.touches = touches
+        self.forked = forked
 
 
 def track_of(program, cells):
@@ -20,10 +27,11 @@ def track_of(program, cells):
 def followed(row, cells):
     track = Track()
     while not row.is_over():
-        touches = [(row.name, track.length, way, k) for way, k in ways_of(row.coming())]
+        step = row.coming()
+        touches = [(row.name, track.length, way, k) for way, k in ways_of(step)]
         forked = [followed(part, cells) for part in row.do_unit(cells)]
         if len(touches) + len(forked) > 0:
-            track.marks.append((touches, forked))
+            track.marks.append(Mark(step, touches, forked))
         track.length += 1
     return track
 

@@ -1,7 +1,10 @@
 """The program told once more, in another way, for tests that hold the one against the other.
 
-A row is a generator here: it stops ahead of each unit, and does it when it is asked to go on.
+A row is a generator here: it stops ahead of each unit, and does it when it is asked to go on. So it can't go back:
+who wants to go on from one place by several ways does all that led there anew each time.
 """
+
+import itertools
 
 
 def value_of(value, cells):
@@ -176,3 +179,81 @@ class Crew:
             tuple(tuple(named(row) for row in self.piles[hand]) for hand in range(self.hands)),
             tuple(named(self.has.get(hand)) for hand in range(self.hands)),
         )
+
+
+def papers_of(program, cells, hands):
+    """All papers that there are, by all turns that there are."""
+    papers = set()
+    ways = [()]
+    while ways:
+        way = ways.pop()
+        crew = Crew(program, cells, hands)
+        paper = tuple(crew.tick(turns) for turns in way)
+        if () in crew.over:
+            papers.add(paper)
+            continue
+        further = {}
+        for turns in itertools.product(range(hands), repeat=hands):
+            further.setdefault(told_behind(program, cells, hands, way + (turns,)), turns)
+        ways += [way + (turns,) for turns in further.values()]
+    return papers
+
+
+def told_behind(program, cells, hands, way):
+    crew = Crew(program, cells, hands)
+    return [crew.tick(turns) for turns in way][-1]
+
+
+class Weave:
+    """A program whose rows are done in whatever order; free has those that can do a unit."""
+
+    def __init__(self, program, cells, order=()):
+        self.cells = list(cells)
+        self.top = Row(self, (), program, None)
+        self.free = {(): self.top} if program else {}
+        for name in order:
+            self.do_unit(name)
+
+    def do_unit(self, name):
+        row = self.free.pop(name)
+        if row.coming[0] == "both":
+            fork = name + (len(row.forks),)
+            pair = [Row(self, fork + (side,), row.coming[1 + side], row) for side in (0, 1)]
+            row.forks.append((len(row.notes), *pair))
+            self.free.update({part.name: part for part in pair})
+            return
+        row.go_on()
+        while row.coming is None and row.above is not None:
+            twin = row.above.forks[-1][2 - row.name[-1]]
+            if twin.coming is not None:
+                return
+            row = row.above
+            row.go_on()
+        if row.coming is not None:
+            self.free[row.name] = row
+
+    def told(self):
+        return None if self.free else (tuple(self.cells), tuple(self.top.all_notes()))
+
+
+def done_in(program, cells, order):
+    weave = Weave(program, cells)
+    for name in order:
+        if name not in weave.free:
+            return None
+        weave.do_unit(name)
+    return weave.told()
+
+
+def orders_of(program, cells):
+    """Each order that does the whole program, with what comes by it."""
+    orders = {}
+    ways = [()]
+    while ways:
+        order = ways.pop()
+        weave = Weave(program, cells, order)
+        if weave.free:
+            ways += [order + (name,) for name in weave.free]
+        else:
+            orders[order] = weave.told()
+    return orders

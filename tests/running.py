@@ -65,3 +65,60 @@ def programs_with_cells(count, parted, seed):
     """So many pairs of a program and cells, the same ones each time; parted ones have no race."""
     maker = Maker(seed, parted)
     return [(maker.program(), any_cells(maker.chance)) for turn in range(count)]
+
+
+def units_at_most(row):
+    """No order of a program does more units than so many."""
+    units = 0
+    for step in row:
+        if step[0] == "work":
+            units += step[1]
+        elif step[0] == "again":
+            units += step[1] * units_at_most(step[2])
+        elif step[0] == "if":
+            units += 1 + max(units_at_most(step[2]), units_at_most(step[3]))
+        elif step[0] == "both":
+            units += 1 + units_at_most(step[1]) + units_at_most(step[2])
+        else:
+            units += 1
+    return units
+
+
+def small_programs(count, parted, seed, units=12):
+    """So many pairs of a program with a fork, of which no order does more than so many units, and cells."""
+    maker = Maker(seed, parted)
+    found = []
+    while len(found) < count:
+        program = maker.program()
+        if "'both'" in str(program) and units_at_most(program) <= units:
+            found.append((program, any_cells(maker.chance)))
+    return found
+
+
+def racing_step(chance, depth):
+    word = chance.choice(("set", "set", "add", "note", "if", "again", "both", "both") if depth else ("set", "add"))
+    cell = ("cell", chance.randint(0, 1))
+    if word in ("set", "add"):
+        return (word, chance.randint(0, 1), (chance.choice(SUM_WORDS[:3]), cell, chance.randint(2, 9)))
+    if word == "note":
+        return (word, cell)
+    if word == "again":
+        return (word, 2, racing_row(chance, 1, depth - 1))
+    if word == "if":
+        return (word, ("under", cell, chance.randint(1, 500)), racing_row(chance, 0, depth - 1), racing_row(chance, 0, depth - 1))
+    return (word, racing_row(chance, 1, depth - 1), racing_row(chance, 1, depth - 1))
+
+
+def racing_row(chance, fewest, depth):
+    return tuple(racing_step(chance, depth) for turn in range(chance.randint(fewest, 3)))
+
+
+def racing_programs(count, seed, fewest=1, most=12):
+    """As small_programs, but most of them end with unlike cells by unlike orders."""
+    chance = random.Random(seed)
+    found = []
+    while len(found) < count:
+        program = (("both", racing_row(chance, 1, 2), racing_row(chance, 1, 2)),) + racing_row(chance, 0, 1)
+        if fewest <= units_at_most(program) <= most:
+            found.append((program, (chance.randint(0, 999), chance.randint(0, 999))))
+    return found

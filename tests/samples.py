@@ -40,6 +40,23 @@ SUM_PLACES = (
 )
 
 
+def both(one, other):
+    return ("both", one, other)
+
+
+def work(n):
+    return ("work", n)
+
+
+def note(value):
+    return ("note", value)
+
+
+def in_its_place(row):
+    """The step in the place of a both whose rows, one behind the other, are this one."""
+    return ("if", 1, row, ())
+
+
 def deep_sum(words, word="plus", side=1):
     """A sum so many words deep, on one side."""
     value = ("cell", 1)
@@ -102,3 +119,10 @@ def programs(count, seed=1):
     """So many programs, the same ones each time."""
     chance = random.Random(seed)
     return [any_row(chance, 0, chance.randint(0, 6)) for turn in range(count)]
+
+
+def is_plain(thing):
+    """Whether it is of a kind that may be told."""
+    if type(thing) is tuple:
+        return all(is_plain(part) for part in thing)
+    return thing is None or type(thing) in (int, bool, str)

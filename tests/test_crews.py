@@ -4,21 +4,10 @@ from joincrew.alone import alone, touched
 from joincrew.crews import Crew, fewest_ticks, most_ticks
 from joincrew.errors import CrewError, NoText, NoTick
 from running import programs_with_cells
+from samples import both, is_plain, note, work
 
 TOP, ONE, OTHER = (), (0, 0), (0, 1)
 LONG = 10 ** 20
-
-
-def both(one, other):
-    return ("both", one, other)
-
-
-def work(n):
-    return ("work", n)
-
-
-def note(value):
-    return ("note", value)
 
 
 def state(crew):
@@ -295,17 +284,12 @@ class Over(Crews):
 
 
 class Told(Crews):
-    def is_plain(self, thing):
-        if type(thing) is tuple:
-            return all(self.is_plain(part) for part in thing)
-        return thing is None or type(thing) in (int, bool, str)
-
     def test_lists_stand_nowhere(self):
         for program, cells in programs_with_cells(60, False, 23):
             crew = Crew(program, cells, 3)
             while not crew.is_over():
-                self.assertTrue(self.is_plain(crew.tick((0, 1, 2))))
-                self.assertTrue(self.is_plain(state(crew)))
+                self.assertTrue(is_plain(crew.tick((0, 1, 2))))
+                self.assertTrue(is_plain(state(crew)))
 
     def test_numbers_are_no_truths(self):
         crew = Crew((("set", 0, ("under", 1, 2)), note(("under", 1, 2)), note(("under", 2, 1))), (0,), 1)

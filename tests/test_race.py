@@ -4,14 +4,11 @@ import unittest
 from joincrew.alone import race, touched
 from model import are_a_race
 from running import programs_with_cells
+from samples import both
 
 SET, ADD, READ = ("set", 0, 1), ("add", 0, 1), ("note", ("cell", 0))
 ASK = ("if", ("cell", 0), (), ())
 UNIT = (("work", 1),)
-
-
-def both(one, other):
-    return ("both", one, other)
 
 
 class Race(unittest.TestCase):
